@@ -1,0 +1,20 @@
+"""The example of the README is right."""
+
+import doctest
+import os
+import unittest
+
+import helpers  # noqa: F401
+
+README = os.path.join(os.path.dirname(os.path.abspath(__file__)), "..", "README.md")
+
+
+class ReadmeTest(unittest.TestCase):
+    def test_example(self):
+        told = doctest.testfile(README, module_relative=False)
+        self.assertEqual(told.failed, 0)
+        self.assertGreater(told.attempted, 0)
+
+
+if __name__ == "__main__":
+    unittest.main()

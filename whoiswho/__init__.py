@@ -1,0 +1,1 @@
+"""Whoiswho: records led together by likeness."""
