@@ -35,7 +35,7 @@ def like_blocks(likes):
     ties = []
     for thing in range(likes.things):
         ties.extend(tied_at(pairs, thing, likes.things))
-    blocks = [tuple(sorted({thing for pair in lot for thing in pair})) for lot in tied_lots(pairs, ties)]
+    blocks = [tuple(sorted({end for pair in lot for end in pair})) for lot in tied_lots(pairs, ties)]
     paired = {thing: True for pair in pairs for thing in pair}
     alone = [(thing,) for thing in range(likes.things) if thing not in paired]
     return tuple(sorted(blocks + alone))

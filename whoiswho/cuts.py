@@ -25,7 +25,8 @@ def reached_things(centre, rooms, rows):
     at = 0
     while at < len(reached):
         beside = left.get(reached[at], {})
-        reached.extend([thing for thing in beside if beside[thing] > 0 and thing not in reached])
+        further = [thing for thing in beside if beside[thing] > 0 and thing not in reached]
+        reached.extend(further)
         at += 1
     return reached
 
