@@ -70,7 +70,7 @@ class LossTest(unittest.TestCase):
 
     def test_wrong_values(self):
         web = Likes(3, [(1, 0, 1)], [])
-        wrong = [((0, 1),), ((0, 1), (1, 2)), ((1, 2), (0,)), ((0, 2, 1),), ((0,), (1,), (2,), ()), [(0, 1, 2)],
+        wrong = [((), (0, 1, 2)), ((0, 1),), ((0, 1), (1, 2)), ((1, 2), (0,)), ((0, 2, 1),), ((0,), (1,), (2,), ()), [(0, 1, 2)],
                  ([0, 1, 2],), ((0, True), (2,)), ((False, 1, 2),), ((0, 1, 2, 3),), (), None, 3, ((0, 1, 2), 3), "012"]
         for function in (likes_loss, tight_people):
             for people in wrong:
@@ -126,6 +126,17 @@ class BestTest(unittest.TestCase):
         self.assertEqual(paper[2], 2)
         self.assertGreater(leaves(paper[3]), 1)
         self.assertEqual(best_paper(web, 1), ("bound",))
+        choice = chance(4040)
+        hard = 0
+        while hard < 25:
+            things = choice.randint(4, 6)
+            pairs = [(one, other) for one in range(things) for other in range(one + 1, things)]
+            choice.shuffle(pairs)
+            web = Likes(things, [(1,) + pair for pair in pairs[:5]], [(1,) + pair for pair in pairs[5:10]])
+            many = leaves(best_paper(web, 2 ** 10)[3])
+            hard += many > 2
+            for most in range(1, many + 2):
+                self.check_paper(web, most, best_paper(web, most))
 
     def test_changed_papers(self):
         choice = chance(401)
@@ -160,10 +171,12 @@ class BestTest(unittest.TestCase):
         self.assertFalse(best_holds(web, ("best", people, 2, two)))
         both = ("pair", 0, 1, ("pair", 1, 2, ("rings", ((2, (0, 1, 2)),)), ("rings", ())), ("rings", ()))
         self.assertTrue(best_holds(web, ("best", people, 2, both)))
-        again = ("pair", 0, 1, ("pair", 0, 1, way, way), ("rings", ()))
+        again = ("pair", 0, 1, ("pair", 0, 1, way, ("rings", ())), ("rings", ()))
         self.assertFalse(best_holds(web, ("best", people, 2, again)))
+        self.assertFalse(best_holds(web, ("best", people, 2, ("pairs",) + told[1:])))
         for tree in (("rings", ((3, (0, 1, 2)),)), ("rings", ((2, (0, 2)),)), ("rings", ((1, (0, 1, 2)),)),
-                     ("rings", ((1, (0, 1, 2)), (2, (0, 1, 2)))), ("rings", [(2, (0, 1, 2))]),
+                     ("rings", ((1, (0, 1, 2)), (2, (0, 1, 2)))), ("rings", ((2, ()),)), ("rings", ((2, (0, 1, 2)), (0, (0, 1, 2)))),
+                     ("rings", ((3, (0, 1, 2)), (-1, (0, 1, 2)))), ("rings", [(2, (0, 1, 2))]),
                      ("rings", ((2, [0, 1, 2]),)), ("rings", ((2, (0, True, 2)),)), ("rings", ((2, (0,)),)),
                      ("rings", ()), ("rings", ((2, (0, 1, 2, 3)),)), ("pair", 2, 0, way, way), ("pair", 0, 3, way, way),
                      ("pair", 0, 0, way, way), ("pair", False, 2, way, way), ("ring", way[1]), None, ()):

@@ -292,6 +292,8 @@ class CompactTest(unittest.TestCase):
             keeps(self, InvalidState, 1, join_compact, right, state)
             keeps(self, InvalidState, -1, compact_do, state, 9, None)
         keeps(self, Refused, -1, join_compact, right, ((1, 0), (row,)))
+        wide = ((0, 1) * 4, (((7, 0), (0, 7), ("rule", ())),))
+        self.assertEqual(join_compact(wide, wide), wide)
         # No more is looked at: neither whether ranks are unlike nor what words name.
         loose = ((2, 1), (row, ((0, 1), (5, 0), ("change", (7, 7), ())), ((1, 0), (5, 1), ("same", (0, 0), (1, 0)))))
         self.assertEqual(join_compact(loose, loose), loose)
@@ -304,6 +306,13 @@ class CompactTest(unittest.TestCase):
         other = ((1, 3), (((0, 0), (5, 0), ("put", (True,))),))
         self.assertEqual(join_compact(one, other), ((1, 3), ()))
         self.assertEqual(join_compact(one, ((1, 3), (row,))), ((1, 3), (row,)))
+        for fields in ((), (2,), (1, 1), ((1,),), ("1",), (None,), ((),)):
+            self.assertEqual(join_compact(one, ((1, 3), (row[:2] + (("put", fields),),))), ((1, 3), ()))
+        nested = ((0, 0), (5, 0), ("put", ((1, ("a", None)), Likes(1, (), ()))))
+        again = ((0, 0), (5, 0), ("put", ((1, ("a", None)), Likes(1, (), ()))))
+        self.assertEqual(join_compact(((1,), (nested,)), ((1,), (again,))), ((1,), (nested,)))
+        again = ((0, 0), (5, 0), ("put", ((True, ("a", None)), Likes(1, (), ()))))
+        self.assertEqual(join_compact(((1,), (nested,)), ((1,), (again,))), ((1,), ()))
 
     def test_wrong_deeds(self):
         state = ((1, 2), (((0, 0), (0, 0), ("put", ())), ((1, 1), (1, 1), ("day", ()))))

@@ -3,7 +3,7 @@
 import unittest
 
 from helpers import chance, check_ways, keeps, odd_values, same
-from webs import leaves, plain_best, plain_tree, some_web, star_web
+from webs import leaves, plain_best, plain_loss, plain_tree, some_web, star_web
 from whoiswho.best import Likes, best_holds
 from whoiswho.cuts import star_paper
 from whoiswho.errors import InvalidLinks, Refused
@@ -26,6 +26,19 @@ class CutsTest(unittest.TestCase):
             self.check(star_web(choice, choice.randint(1, 6)))
         for _ in range(12):
             self.check(star_web(choice, 7))
+
+    def test_flows_go_back_where_they_must(self):
+        choice = chance(413)
+        for _ in range(1500):
+            things = choice.randint(4, 7)
+            pairs = [(one, other) for one in range(things) for other in range(one + 1, things)]
+            centre = choice.randrange(things)
+            links = [(choice.randint(1, 3),) + pair for pair in pairs if choice.random() < 0.5]
+            bars = [(choice.choice([None, 1, 2, 3]),) + pair for pair in pairs if centre in pair and choice.random() < 0.5]
+            web = Likes(things, links, bars)
+            _, groups, loss, tree = star_paper(web)
+            self.assertEqual(plain_loss(web, groups), loss)
+            self.assertTrue(plain_tree(web, loss, tree, ()))
 
     def test_seven_things_with_all_pairs(self):
         choice = chance(411)

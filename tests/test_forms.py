@@ -130,7 +130,8 @@ class FormsTest(unittest.TestCase):
         right = (("b",), ("a",))
         wrong = [(("a",), ("b",)), (("a",), ("a",)), (("a",), ()), ((), ()), (("a", "b"), ("a", "c")), (("a",),),
                  (("a",), ("bb",)), (("B",), ("a",)), (("a", ""), ("a",)), ("b", "a"), (("b",), ("a",), ()), None, 3,
-                 (("b", True), ("a",)), (("a", "b"), ("a", "b", "0"))]
+                 (("b", True), ("a",)), (("a", "b"), ("a", "b", "0")), (("b",), ("A",)), (("b", "b"), ("b", "")),
+                 (("b", "b"), (None,)), (("b", "b"), "a"), (("b", "b"), None)]
         for function in FUNCTIONS:
             for rule in wrong:
                 keeps(self, InvalidTable, 1, function, [right, rule], ["a"])

@@ -144,6 +144,14 @@ class NamingTest(unittest.TestCase):
                 self.assertTrue(same(names_hold(named, people, fresh, value), told))
         self.assertGreater(right, 100)
 
+    def test_numbers_are_dealt_to_those_that_share_alone(self):
+        named, people = ((3, ((0, 0),)), (5, ((0, 1),))), (((0, 0),), ((0, 2),))
+        self.assertTrue(names_hold(named, people, 6, (((3, people[0]), (6, people[1])), 0, (1, 0), (0, 0))))
+        for rows in [((3, people[0]), (5, people[1])), ((3, people[0]), (7, people[1])), ((3, people[0]), (4, people[1])),
+                     ((6, people[0]), (7, people[1])), ((5, people[0]), (6, people[1]))]:
+            for changed in (0, 1):
+                self.assertFalse(names_hold(named, people, 6, (rows, changed, (1, 0), (0, 0))))
+
     def test_joined_and_parted_groups(self):
         a, b, c = (0, 0), (0, 1), (0, 2)
         named = ((3, (a, b)), (5, (c,)))

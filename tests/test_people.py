@@ -132,6 +132,8 @@ class PeopleTest(unittest.TestCase):
             keeps(self, InvalidPeople, 2, link_pieces, [(0, 0), (0, 1), name], None)
             keeps(self, InvalidPeople, 2, first_weight, [(0, 0), (0, 1), name], None, None, None, None)
             keeps(self, InvalidPeople, 2, people_above, [(0, 0), (0, 1), name], None, None, None)
+        for names in ([(0, 1), (0, 1)], [(0, 1), (0, 0)], [[3, 3], (0, 5), None]):
+            keeps(self, InvalidPeople, 1, link_order, names, None)
         for names in (None, 3, "ab", True):
             for function in WEB:
                 keeps(self, InvalidPeople, -1, function, names, None, None)
@@ -141,7 +143,8 @@ class PeopleTest(unittest.TestCase):
         first = (1, (0, 0), (0, 1))
         for link in [(1, (0, 1), (0, 0)), (1, (0, 0), (0, 0)), (1, (0, 0), (0, 2)), (True, (0, 0), (1, 0)),
                      (None, (0, 0), (1, 0)), ("1", (0, 0), (1, 0)), (1, (0, 0)), (1, (0, 0), (1, 0), 0), None, 3, (2, (0, 0),
-                     (0, 1)), (1, (0, False), (1, 0)), (1, None, (1, 0)), (1, (0, 0), [0, 0, 1])]:
+                     (0, 1)), (1, (0, False), (1, 0)), (1, None, (1, 0)), (1, (0, 0), [0, 0, 1]),
+                     (1, (0, 0), None), (1, (0, 0), (1, False)), (1, (0, 7), (1, 0)), (1, (0, 0), 3)]:
             for function in WEB:
                 keeps(self, InvalidLinks, 1, function, names, [first, link, None], None)
             keeps(self, InvalidLinks, 1, link_order, names, [first, link])

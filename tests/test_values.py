@@ -158,6 +158,9 @@ class ValuesTest(unittest.TestCase):
                 keeps(self, InvalidSources, 1, told_value, ("most",), rows)
                 keeps(self, InvalidSources, 1, fewest_struck, ("most",), rows)
         keeps(self, InvalidSources, 2, sum_up, [((1, 1), (0, 0), None), first, ((0, 1), (0, 0), "1")])
+        for value in ((1,), [None], (("a",),), True, ("a", True), Likes(1, (), ()), (["a"], "b")):
+            keeps(self, InvalidSources, 1, sum_up, [((1, 1), (0, 0), None), ((0, 1), (0, 0), value)])
+            keeps(self, InvalidSummary, -1, without_source, ((value, (((0, 0), (0, 0)),)),), (0, 0))
         for value in (None, 3, "ab", True, Likes(1, (), ())):
             keeps(self, InvalidSources, -1, sum_up, value)
             keeps(self, InvalidSources, -1, told_value, ["all"], value)

@@ -154,11 +154,9 @@ def groups_at(homes):
 
 
 def least_groups(likes, told):
-    """(loss, groups): some let groups of least loss that keep what is told of pairs, or None."""
+    """(loss, groups): some let groups of least loss that keep what is told of pairs; there must be some."""
     best = [None, None]
     try_homes(likes.things, (), 0, told_costs(likes, told), best)
-    if best[0] is None:
-        return None
     return best[0], groups_at(best[1])
 
 

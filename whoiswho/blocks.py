@@ -90,10 +90,10 @@ def is_kept_apart(likes, pair):
 
 
 def loss_word(first, second):
-    """What a pair is in best groups, of the least losses in one, which may be None, and in two."""
-    if first is None or first > second:
-        return "two"
-    return "one" if first < second else "open"
+    """What a pair is in best groups, of the least losses with it in one and in two."""
+    if first == second:
+        return "open"
+    return "one" if first < second else "two"
 
 
 def side_paper(likes, pair, word, most):

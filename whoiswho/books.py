@@ -32,8 +32,6 @@ def is_word(value):
         return False
     if len(places) == 2:
         return value[1] < value[2]
-    if value[0] == "back":
-        return True
     return isinstance(value[-1], tuple) and not has_list(value[-1])
 
 
