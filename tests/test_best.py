@@ -4,7 +4,7 @@ import unittest
 
 from helpers import chance, changed_values, check_ways, keeps, odd_values, same
 from webs import count_pairs, leaves, partitions, plain_best, plain_groups, plain_loss, plain_tight, plain_tree
-from webs import some_web, star_web
+from webs import some_web, star_web, told_again
 from whoiswho.best import Likes, best_holds, best_paper, likes_loss, tight_people
 from whoiswho.errors import InvalidBars, InvalidLinks, InvalidPeople, InvalidSize
 
@@ -171,7 +171,10 @@ class BestTest(unittest.TestCase):
         self.assertFalse(best_holds(web, ("best", people, 2, two)))
         both = ("pair", 0, 1, ("pair", 1, 2, ("rings", ((2, (0, 1, 2)),)), ("rings", ())), ("rings", ()))
         self.assertTrue(best_holds(web, ("best", people, 2, both)))
-        again = ("pair", 0, 1, ("pair", 0, 1, way, ("rings", ())), ("rings", ()))
+        # Told one, then two: the pair's own link is lost. Told one again: nothing more than the way shows.
+        again = ("pair", 0, 1, ("pair", 0, 1, ("rings", ((2, (0, 1, 2)),)), ("rings", ())), ("rings", ()))
+        self.assertTrue(best_holds(web, ("best", people, 2, again)))
+        again = ("pair", 0, 1, ("pair", 0, 1, ("rings", ((1, (0, 1, 2)),)), ("rings", ())), ("rings", ()))
         self.assertFalse(best_holds(web, ("best", people, 2, again)))
         self.assertFalse(best_holds(web, ("best", people, 2, ("pairs",) + told[1:])))
         for tree in (("rings", ((3, (0, 1, 2)),)), ("rings", ((2, (0, 2)),)), ("rings", ((1, (0, 1, 2)),)),
@@ -185,6 +188,21 @@ class BestTest(unittest.TestCase):
         self.assertFalse(best_holds(web, ("best", ((0,), (1,), (2,)), 4, way)))
         self.assertFalse(best_holds(web, ("best", people, 2, way, 0)))
         self.assertFalse(best_holds(web, ("bound",)))
+
+    def test_pairs_that_stand_on_the_way_again(self):
+        choice = chance(406)
+        found = {True: 0, False: 0}
+        for _ in range(500):
+            web = some_web(choice, choice.randint(3, 4), choice.randint(4, 6))
+            least, best = plain_best(web)
+            pair = tuple(sorted(choice.sample(range(web.things), 2)))
+            tree = best_paper(web, 2 ** 10)[3]
+            tree = told_again(choice, ("pair",) + pair + (tree, tree))
+            value = ("best", choice.choice(best), least, tree)
+            holds = best_holds(web, value)
+            self.assertIs(holds, plain_tree(web, least, tree, ()), (vars(web), value))
+            found[holds] += least > 0
+        self.assertGreater(min(found.values()), 30)
 
     def test_links_as_often_as_rows_go_along(self):
         web = Likes(2, [(2, 0, 1)], [(3, 0, 1)])

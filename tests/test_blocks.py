@@ -5,7 +5,7 @@ import unittest
 
 from helpers import chance, changed_values, check_ways, keeps, odd_values, same
 from webs import count_pairs, leaves, partitions, plain_best, plain_groups, plain_loss, plain_tight, plain_tree
-from webs import some_web, star_web, together
+from webs import some_web, star_web, together, told_again
 from whoiswho.best import Likes
 from whoiswho.blocks import best_count, like_blocks, turning_weight, word_holds, word_paper
 from whoiswho.errors import InvalidIndex, InvalidLinks, InvalidSize
@@ -116,7 +116,10 @@ class BlocksTest(unittest.TestCase):
         self.assertTrue(word_holds(web, 0, 2, ("open", first, (2, ((0,), (1, 2)), way))))
         told = ("pair", 0, 1, ("pair", 1, 2, way, ("rings", ())), ("rings", ()))
         self.assertTrue(word_holds(web, 2, 0, ("open", first, (2, ((0,), (1, 2)), told))))
-        self.assertFalse(word_holds(web, 0, 2, ("open", first, (2, ((0, 1), (2,)), ("pair", 0, 2, way, way)))))
+        # The pair itself may be told again: told two, and then one, the bar on it bars without bound, and is lost.
+        again = ("pair", 0, 2, ("rings", ()), way)
+        self.assertTrue(word_holds(web, 0, 2, ("open", first, (2, ((0, 1), (2,)), again))))
+        self.assertFalse(word_holds(web, 0, 2, ("open", first, (2, ((0, 1), (2,)), again[:4] + (("rings", ()),)))))
         for value in [("one", first, second), ("two", first, second), ("open", None, second), ("open", second, first),
                       ("open", first, (2, ((0, 1, 2),), way)), ("open", (2, ((0, 1), (2,)), ("rings", ())), second),
                       ["open", first, second], ("open", list(first), second), ("open", first), ("bound",)]:
@@ -125,6 +128,19 @@ class BlocksTest(unittest.TestCase):
         self.assertTrue(word_holds(barred, 0, 1, ("two", None, (5, ((0,), (1,)), ("rings", ())))))
         self.assertFalse(word_holds(barred, 0, 1, ("two", (5, ((0, 1),), ("rings", ())), (5, ((0,), (1,)), ("rings", ())))))
         self.assertTrue(same(word_paper(barred, 0, 1, 1), ("two", None, (5, ((0,), (1,)), ("rings", ())))))
+
+    def test_pairs_that_stand_on_the_way_again(self):
+        choice = chance(436)
+        found = {True: 0, False: 0}
+        for _ in range(300):
+            web = some_web(choice, choice.randint(3, 4), choice.randint(4, 6))
+            pair = tuple(sorted(choice.sample(range(web.things), 2)))
+            paper = word_paper(web, pair[0], pair[1], 2 ** 10)
+            value = paper[:1] + tuple(side and side[:2] + (told_again(choice, side[2], (pair,)),) for side in paper[1:])
+            holds = word_holds(web, pair[0], pair[1], value)
+            self.assertIs(holds, plain_holds(web, pair, value), (vars(web), pair, value))
+            found[holds] += 1
+        self.assertGreater(min(found.values()), 30)
 
     def test_turning_weights(self):
         choice = chance(432)

@@ -75,12 +75,13 @@ def plain_tree(web, loss, tree, told):
         if len(tree) != 5 or not is_int(tree[1]) or not is_int(tree[2]):
             return False
         pair = (tree[1], tree[2])
-        if not pair[0] < pair[1] < web.things or any(pair == other for other, _ in told):
+        if not pair[0] < pair[1] < web.things:
             return False
         return all(plain_tree(web, loss, tree[3 + at], told + ((pair, word),)) for at, word in enumerate(("one", "two")))
     if tree[0] != "rings" or len(tree) != 2 or type(tree[1]) is not tuple:
         return False
-    known = dict(told)
+    ones = {pair for pair, word in told if word == "one"}
+    twos = {pair for pair, word in told if word == "two"}
     links = {(one, other): weight for weight, one, other in web.links}
     bars = {(one, other): weight for weight, one, other in web.bars}
     many = 0
@@ -94,26 +95,34 @@ def plain_tree(web, loss, tree, told):
         many += amount
         for at in range(len(way) - 1):
             pair = tuple(sorted(way[at:at + 2]))
-            if known.get(pair) == "one":
+            if pair in ones:
                 continue
-            if pair in known or pair not in links:
+            if pair in twos or pair not in links:
                 return False
             along[("link", pair)] = along.get(("link", pair), 0) + amount
         ends = tuple(sorted((way[0], way[-1])))
-        if known.get(ends) == "two" or (ends in bars and bars[ends] is None):
+        if ends in twos or (ends in bars and bars[ends] is None):
             continue
-        if ends in known or ends not in bars:
+        if ends in ones or ends not in bars:
             return False
         along[("bar", ends)] = along.get(("bar", ends), 0) + amount
     for (kind, pair), amount in along.items():
         if amount > (links if kind == "link" else bars)[pair]:
             return False
-    for pair, word in told:
-        if word == "two":
-            many += links.get(pair, 0)
-        else:
-            many += bars.get(pair, 0) or 0
+    many += sum(links.get(pair, 0) for pair in twos)
+    many += sum(bars.get(pair, 0) or 0 for pair in ones)
     return many >= loss
+
+
+def told_again(choice, tree, way=()):
+    """A tree in which some pairs stand on a way again; some leaves may have lost their rows."""
+    if way and choice.random() < 0.5:
+        pair = choice.choice(way)
+        return ("pair",) + pair + tuple(told_again(choice, tree, choice.choice([(), way])) for _ in range(2))
+    if tree[0] == "pair":
+        behind = way + (tree[1:3],)
+        return tree[:3] + tuple(told_again(choice, part, behind) for part in tree[3:])
+    return tree if choice.random() < 0.6 else ("rings", tree[1][1:])
 
 
 def leaves(tree):

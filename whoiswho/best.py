@@ -110,12 +110,17 @@ def tight_of(likes, people):
     return tied_lots(list(range(likes.things)), within)
 
 
+def told_as(told, pair, word):
+    """Whether a pair is told so; it may be told both ways, one behind the other."""
+    return told.get(pair, "") in (word, "both")
+
+
 def told_costs(likes, told):
     """What each pair costs in two groups, and in one group: None where it must not be so."""
     apart = {(one, other): weight for weight, one, other in likes.links}
     within = {(one, other): weight for weight, one, other in likes.bars}
     for pair in told:
-        if told[pair] == "one":
+        if told_as(told, pair, "one"):
             apart[pair] = None
         else:
             within[pair] = None
@@ -165,17 +170,17 @@ def leaf_rooms(likes, told):
     ties = {(one, other): weight for weight, one, other in likes.links if (one, other) not in told}
     bars = {(one, other): weight for weight, one, other in likes.bars if (one, other) not in told or weight is None}
     for pair in told:
-        if told[pair] == "one":
+        if told_as(told, pair, "one"):
             ties[pair] = None
-        else:
+        if told_as(told, pair, "two"):
             bars[pair] = None
     return ties, bars
 
 
 def told_loss(likes, told):
     """What all groups lose that keep what is told."""
-    loss = sum([weight for weight, one, other in likes.links if told.get((one, other), "") == "two"])
-    bars = [weight for weight, one, other in likes.bars if told.get((one, other), "") == "one"]
+    loss = sum([weight for weight, one, other in likes.links if told_as(told, (one, other), "two")])
+    bars = [weight for weight, one, other in likes.bars if told_as(told, (one, other), "one")]
     return loss + sum([weight for weight in bars if weight is not None])
 
 
@@ -206,8 +211,9 @@ def pair_to_tell(likes, told):
 
 
 def with_told(told, pair, word):
+    """What is told behind a further word of a pair; of one told otherwise, too, both words hold."""
     behind = {other: told[other] for other in told}
-    behind[pair] = word
+    behind[pair] = word if told.get(pair, word) == word else "both"
     return behind
 
 
@@ -291,7 +297,7 @@ def tree_holds(likes, loss, told, tree):
     if not is_tuple_of(tree, 5) or tree[0] != "pair":
         return False
     pair = tree[1:3]
-    if not is_below(pair[1], likes.things) or not is_below(pair[0], pair[1]) or pair in told:
+    if not is_below(pair[1], likes.things) or not is_below(pair[0], pair[1]):
         return False
     if not tree_holds(likes, loss, with_told(told, pair, "one"), tree[3]):
         return False
