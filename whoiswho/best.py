@@ -2,8 +2,8 @@
 
 from whoiswho.errors import InvalidBars, InvalidLinks, InvalidPeople, InvalidSize
 from whoiswho.flows import packed_rows
-from whoiswho.plain import is_below, is_number, is_number_lot, is_rising, is_row_of, is_sequence
-from whoiswho.plain import is_tuple_of, is_whole, tied_lots
+from whoiswho.plain import homes_of, is_below, is_number, is_number_lot, is_rising, is_row_of, is_sequence
+from whoiswho.plain import is_tuple_of, is_whole, pair_of, tied_lots
 
 MOST_THINGS = 12
 
@@ -74,11 +74,6 @@ def need_groups(likes, people):
     need_likes(likes)
     if not are_groups(people, likes.things):
         raise InvalidPeople(-1)
-
-
-def homes_of(people):
-    """For each thing the place of its group."""
-    return {thing: at for at, group in enumerate(people) for thing in group}
 
 
 def likes_loss(likes, people):
@@ -257,10 +252,6 @@ def is_leaf_row(value, things):
     if not isinstance(value[1], tuple) or len(value[1]) < 2:
         return False
     return all([is_below(thing, things) for thing in value[1]])
-
-
-def pair_of(one, other):
-    return min(one, other), max(one, other)
 
 
 def way_pairs(way):

@@ -1,9 +1,9 @@
 """Blocks of webs, how many groups are best, and what a pair is in them ([43])."""
 
-from whoiswho.best import Likes, are_groups, groups_at, grown_tree, home_cost, homes_of, least_groups, loss_of
-from whoiswho.best import need_likes, need_most, pair_of, tight_of, told_costs, tree_holds
+from whoiswho.best import Likes, are_groups, groups_at, grown_tree, home_cost, least_groups, loss_of
+from whoiswho.best import need_likes, need_most, tight_of, told_costs, tree_holds
 from whoiswho.errors import InvalidIndex
-from whoiswho.plain import is_below, is_tuple_of, is_whole, tied_lots
+from whoiswho.plain import homes_of, is_below, is_tuple_of, is_whole, pair_of, tied_lots
 
 
 def pairs_of(likes):

@@ -35,7 +35,12 @@ def edited_text(text, script):
 
 def distance_rows(one, other):
     """The rows of edit_table, of texts that are known to be right."""
-    rows = [tuple(range(len(other) + 1))]
+    return rows_below(one, other, tuple(range(len(other) + 1)))
+
+
+def rows_below(one, other, first):
+    """The rows of a table of distances with this first row."""
+    rows = [first]
     for i in range(1, len(one) + 1):
         above = rows[i - 1]
         row = [i]

@@ -1,7 +1,7 @@
 """Two partitions of the same names beside each other ([66])."""
 
 from whoiswho.errors import InvalidIndex, InvalidPeople, NoRecord, Refused
-from whoiswho.plain import is_name, is_name_group, is_whole
+from whoiswho.plain import homes_of, is_name, is_name_group, is_whole
 
 
 def need_parts(value):
@@ -19,22 +19,17 @@ def need_parts(value):
     return value
 
 
-def group_homes(parts):
-    """For each name the place of its group."""
-    return {name: at for at, group in enumerate(parts) for name in group}
-
-
 def need_same_names(one, other):
     """Raises the errors of two parts that are not parts of the same names."""
     need_parts(one)
     need_parts(other)
-    if sorted(group_homes(one)) != sorted(group_homes(other)):
+    if sorted(homes_of(one)) != sorted(homes_of(other)):
         raise Refused("names")
 
 
 def cells_of(one, other):
     """How many names each two groups (i, j) have in common, of those that have some."""
-    homes, others = group_homes(one), group_homes(other)
+    homes, others = homes_of(one), homes_of(other)
     cells = {}
     for name in homes:
         cell = (homes[name], others[name])
@@ -59,7 +54,7 @@ def counts_of(one, other):
     both = pairs_within(list(cells_of(one, other).values()))
     ones = pairs_within([len(group) for group in one])
     others = pairs_within([len(group) for group in other])
-    every = pairs_within([len(group_homes(one))])
+    every = pairs_within([len(homes_of(one))])
     return both, ones - both, others - both, every - ones - others + both
 
 
@@ -72,7 +67,7 @@ def pair_counts(one, other):
 def unlike_pairs(one, other):
     """Ascending, the pairs that are one in one of both alone."""
     need_same_names(one, other)
-    homes, others = group_homes(one), group_homes(other)
+    homes, others = homes_of(one), homes_of(other)
     names = sorted(homes)
     pairs = [(names[i], names[j]) for i in range(len(names)) for j in range(i + 1, len(names))]
     return tuple([(a, b) for a, b in pairs if (homes[a] == homes[b]) != (others[a] == others[b])])
@@ -98,7 +93,7 @@ class Pairs:
         self.one = one
         self.other = other
         self.counts = counts_of(one, other)
-        self._homes = group_homes(one)
+        self._homes = homes_of(one)
 
     def move_name(self, name, group):
         """Puts a name of the other into its group of a number, or for -1 into a new one."""

@@ -1,7 +1,7 @@
 """Links by falling weight, bars that keep groups apart, and the people they tell ([24] to [26])."""
 
 from whoiswho.errors import InvalidBars, InvalidIndex, InvalidLinks, InvalidPeople, InvalidSize
-from whoiswho.plain import is_name, is_row_of, is_sequence, is_whole, tied_lots
+from whoiswho.plain import is_name, is_row_of, is_sequence, is_whole, neighbours, tied_lots
 
 MOST_PARTED = 7
 
@@ -77,15 +77,6 @@ def link_order(names, links):
     return in_order(need_links(need_names(names), links))
 
 
-def barred_beside(names, bars):
-    """For each name those that a bar keeps from it."""
-    beside = {name: [] for name in names}
-    for one, other in bars:
-        beside[one].append(other)
-        beside[other].append(one)
-    return beside
-
-
 def is_barred(group, other, beside):
     """Whether a bar lies between two groups, lists of names."""
     lesser, greater = (group, other) if len(group) < len(other) else (other, group)
@@ -99,20 +90,23 @@ def join_groups(groups, one, other):
         groups[name] = group
 
 
+def next_fate(groups, beside, link):
+    """The fate of a link behind these groups; a join makes its ends' groups one."""
+    _, one, other = link
+    if other in groups[one]:
+        return "in"
+    if is_barred(groups[one], groups[other], beside):
+        return "no"
+    join_groups(groups, one, other)
+    return "join"
+
+
 def fates_and_groups(names, links, bars):
     """(fates, groups), of links in order; groups has for each name the list of its group."""
     groups = {name: [name] for name in names}
-    beside = barred_beside(names, bars)
-    fates = []
-    for _, one, other in links:
-        if other in groups[one]:
-            fates.append("in")
-        elif is_barred(groups[one], groups[other], beside):
-            fates.append("no")
-        else:
-            join_groups(groups, one, other)
-            fates.append("join")
-    return tuple(fates), groups
+    beside = neighbours(names, bars)
+    fates = tuple([next_fate(groups, beside, link) for link in links])
+    return fates, groups
 
 
 def people_in(groups):
@@ -138,11 +132,27 @@ def link_pieces(names, links):
     return tied_lots(known, [(one, other) for _, one, other in need_links(known, links)])
 
 
+def piece_of(names, links, name):
+    """The names that links tie to this one, itself too."""
+    lots = tied_lots(names, [(one, other) for _, one, other in links])
+    return [lot for lot in lots if name in lot][0]
+
+
 def need_known(names, name, place):
     """The name as a tuple, if it is one of the names."""
     if not is_name(name) or tuple(name) not in names:
         raise InvalidIndex(place)
     return tuple(name)
+
+
+def first_join(names, joins, one, other):
+    """Of joins, in order, the one behind which two names are first in one group, or None."""
+    groups = {name: [name] for name in names}
+    for link in joins:
+        join_groups(groups, link[1], link[2])
+        if other in groups[one]:
+            return link
+    return None
 
 
 def first_weight(names, links, bars, one, other):
@@ -152,13 +162,8 @@ def first_weight(names, links, bars, one, other):
     if first == second:
         return None
     fates, _ = fates_and_groups(known, ordered, told)
-    groups = {name: [name] for name in known}
-    for at, link in enumerate(ordered):
-        if fates[at] == "join":
-            join_groups(groups, link[1], link[2])
-            if second in groups[first]:
-                return link[0]
-    return None
+    link = first_join(known, [ordered[at] for at, fate in enumerate(fates) if fate == "join"], first, second)
+    return None if link is None else link[0]
 
 
 def people_above(names, links, bars, least):

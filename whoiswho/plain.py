@@ -104,6 +104,48 @@ def need_text(text):
         raise InvalidValue(0)
 
 
+def pair_of(one, other):
+    return min(one, other), max(one, other)
+
+
+def homes_of(people):
+    """For each thing of groups the place of its group."""
+    return {thing: at for at, group in enumerate(people) for thing in group}
+
+
+def neighbours(things, pairs):
+    """For each thing those that it has a pair with."""
+    beside = {thing: [] for thing in things}
+    for one, other in pairs:
+        beside[one].append(other)
+        beside[other].append(one)
+    return beside
+
+
+def chains_from(start, beside):
+    """For each thing that neighbours tie to this one a shortest chain from this one to it."""
+    chains = {start: (start,)}
+    met = [start]
+    at = 0
+    while at < len(met):
+        here = met[at]
+        at += 1
+        for thing in beside[here]:
+            if thing not in chains:
+                chains[thing] = chains[here] + (thing,)
+                met.append(thing)
+    return chains
+
+
+def is_chain(value, pairs):
+    """Whether any value is unlike names, one or more, each two next ones one of the pairs."""
+    if not isinstance(value, tuple) or len(value) == 0 or not all([is_name_tuple(name) for name in value]):
+        return False
+    if len(sorted({name for name in value})) < len(value):
+        return False
+    return all([pair_of(value[at - 1], value[at]) in pairs for at in range(1, len(value))])
+
+
 def tied_lots(things, pairs):
     """Ascending, the lots that hang together by pairs; each thing of no pair is one alone."""
     lots = {thing: [thing] for thing in things}
