@@ -165,7 +165,7 @@ class LanguageTest(unittest.TestCase):
                     self.no(name, node, "a string")
 
     def test_names(self):
-        known = set(dir(builtins))
+        known = set(dir(builtins)) - {"_"}
         for name, node in self.nodes(ast.Name, ast.arg, ast.Attribute, ast.FunctionDef, ast.ClassDef):
             word = {ast.Name: "id", ast.arg: "arg", ast.Attribute: "attr"}.get(type(node), "name")
             word = getattr(node, word)

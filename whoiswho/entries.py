@@ -175,18 +175,26 @@ def read_entry(signs):
     return read[0]
 
 
+def next_entry(log, begin):
+    """(value, where it ends), of the entry that stands whole from a sign on, or None if there is none."""
+    if len(log) < begin + 4:
+        return None
+    end = begin + entry_length(log[begin:begin + 4])
+    try:
+        return read_entry(log[begin:end]), end
+    except InvalidEntry:
+        return None
+
+
 def read_log(log):
     """(values, signs): of the entries that stand whole from the first sign on, and their signs."""
     if not are_signs(log):
         raise InvalidEntry("signs")
     values = []
     here = 0
-    while len(log) >= here + 4:
-        entry = log[here:here + entry_length(log[here:here + 4])]
-        try:
-            value = read_entry(entry)
-        except InvalidEntry:
-            break
-        values.append(value)
-        here += len(entry)
+    entry = next_entry(log, 0)
+    while entry is not None:
+        values.append(entry[0])
+        here = entry[1]
+        entry = next_entry(log, here)
     return tuple(values), here

@@ -19,6 +19,15 @@ def need_parts(value):
     return value
 
 
+def is_parts(value):
+    """Whether any value is parts."""
+    try:
+        need_parts(value)
+    except InvalidPeople:
+        return False
+    return True
+
+
 def need_same_names(one, other):
     """Raises the errors of two parts that are not parts of the same names."""
     need_parts(one)

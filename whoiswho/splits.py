@@ -1,7 +1,7 @@
 """Steps between partitions, what lies between and beside them, and many judges ([67], [68])."""
 
-from whoiswho.errors import InvalidIndex, InvalidPeople, InvalidSteps, Refused
-from whoiswho.measures import counts_of, need_parts, need_same_names
+from whoiswho.errors import InvalidIndex, InvalidSteps, Refused
+from whoiswho.measures import counts_of, is_parts, need_parts, need_same_names
 from whoiswho.plain import chains_from, has_list, homes_of, in_tuples, is_chain, is_name_group, is_sequence
 from whoiswho.plain import is_tuple_of, neighbours, pair_of, same_value, tied_lots
 
@@ -114,7 +114,8 @@ def split_steps(upper, lower):
     steps = []
     for group in upper:
         left = group
-        for part in [part for part in lower if part[0] in group][1:]:
+        within = [part for part in lower if part[0] in group]
+        for part in within[1:]:
             steps.append(("split", left, part))
             left = split_group(left, part)
     return tuple(steps)
@@ -170,14 +171,6 @@ def is_beside(one, middle, other):
     """Whether the middle parts stand on a row of the least cost from the one to the other."""
     need_three(one, middle, other)
     return unlike_many(one, middle) + unlike_many(middle, other) == unlike_many(one, other)
-
-
-def is_parts(value):
-    try:
-        need_parts(value)
-    except InvalidPeople:
-        return False
-    return True
 
 
 def need_judges(rows):
