@@ -207,6 +207,9 @@ class LooksTest(unittest.TestCase):
         for look in [None, 3, (), (0,), (0, 0, 0), (0, True), (False, 0), (2, 0), (0, 1), (1, 0), "00", (0, -1)]:
             keeps(self, InvalidIndex, -1, spoilt_text, "abcd", 1, look, 4)
         keeps(self, InvalidIndex, -1, spoilt_text, "abcd", 1, (0, 0), 6)
+        self.assertEqual(len(spoilt_text("abcd", 1, [1, 1], 3)), 3)
+        for look in [(1, True), (True, 1), (True, True)]:
+            keeps(self, InvalidIndex, -1, spoilt_text, "abcd", 1, look, 3)
         for value in odd_values():
             check_ways(self, piece_places, (value, 1))
             check_ways(self, text_looks, (4, 1, value) if value != 10 ** 20 else (4, 1, 5))

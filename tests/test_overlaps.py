@@ -153,6 +153,7 @@ class OverlapsTest(unittest.TestCase):
         loose = table_of(("b b", "b"),)
         self.assertTrue(form_holds(loose, ("one", ((((0, 0),), ((1, 0),)),))))
         self.assertFalse(form_holds(loose, ("one", ((((0, 0),), ((0, 0),)),))))
+        self.assertFalse(form_holds(loose, ("one", ((((1, 0),), ((1, 0),)),))))
         self.assertFalse(form_holds(loose, ("one", (((), ()),))))
 
     def test_one_or_split_is_told_for_all_rows(self):

@@ -109,6 +109,16 @@ class PapersTest(unittest.TestCase):
         self.assertTrue(same(pair_paper(NAMES, LINKS, BARS, (0, 3), (0, 0)), ("apart", PAPER)))
         self.assertTrue(same(pair_paper(NAMES, LINKS[:2], BARS, (0, 3), (0, 0)), ("pieces", ((0, 3),))))
 
+    def test_chains_begin_at_the_ends_of_the_link(self):
+        names = NAMES + ((1, 0),)
+        links, bars = LINKS + ((7, (0, 3), (1, 0)),), (((0, 1), (1, 0)),)
+        people, rows = people_paper(names, links, bars)
+        first, second = ((0, 2), (0, 1)), ((0, 3), (1, 0))
+        self.assertEqual(rows, (((5, (0, 2), (0, 3)), bars[0], first, second),))
+        for one, other in [(first[1:], second), (first, second[1:]), (second, first), (first[:1], second), (first, second[:1]),
+                           (first[::-1], second), (first, second[::-1]), ((), second), (first, ())]:
+            self.assertFalse(people_hold(names, links, bars, (people, ((rows[0][:2] + (one, other)),))))
+
     def test_papers_hold_and_changed_ones_do_as_they_should(self):
         choice = chance(28)
         found = {True: 0, False: 0}

@@ -182,7 +182,11 @@ class StepsTest(unittest.TestCase):
                 good = [step for step in next_steps(here) if steps_height(step[1], other) < steps_height(here, other)]
                 step, here, _ = choice.choice(good)
                 row.append(step)
-            for value in [tuple(row), split_first(one, other), steps + steps[-1:]] + changed_values(steps, choice, 12):
+            values = [tuple(row), split_first(one, other), steps + steps[-1:]] + changed_values(steps, choice, 12)
+            if len(names) > 1:
+                step, here, _ = choice.choice(next_steps(one))
+                values.append((step,) + fewest_steps(here, other))
+            for value in values:
                 holds = steps_hold(one, other, value)
                 self.assertIs(holds, self.plain_holds(one, other, value), (one, other, value))
                 found[holds] += 1
@@ -276,6 +280,18 @@ class JudgesTest(unittest.TestCase):
         # Just half is neither: within a group it may be.
         rows = [((A, B, C),), ((A, B, C),), ((A, B), (C,)), ((A,), (B, C))]
         self.assertEqual(judges_paper(rows), ("whole", ((A, B, C),), 4))
+        self.assertFalse(judges_hold(rows, ("chain", (A, B, C))))
+        # In a chain each next two are one for more than half of them, the ends for less than half.
+        rows = [((A, B), (C,)), ((A, B), (C,)), ((A,), (B, C)), ((A,), (B, C))]
+        self.assertFalse(judges_hold(rows, ("chain", (A, B, C))))
+        rows = rows[:1] + [((A, B, C),)] + rows[2:3]
+        self.assertEqual(judges_paper(rows), ("chain", (A, B, C)))
+        rows = [((A, B, C),)] * 2 + [((A, B), (C,))] * 3 + [((A,), (B, C))] * 3
+        self.assertEqual(judges_paper(rows), ("chain", (A, B, C)))
+        self.assertTrue(judges_hold(rows, ("chain", (A, B, C))))
+        self.assertFalse(judges_hold(rows, ("chain", (B, A, C))))
+        rows = [((A, B, C),)] * 3 + [((A, B), (C,))] * 3
+        self.assertFalse(judges_hold(rows, ("chain", (B, C, A))))
 
     def test_papers(self):
         choice = chance(681)

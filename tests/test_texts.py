@@ -204,6 +204,7 @@ class FieldsTest(unittest.TestCase):
         for text in ["2023-02-29", "2024-2-29", "0000-01-01", "2024-13-01", "20240229", "x", "2024-02-29-", "2024 02 29"]:
             keeps(self, InvalidField, 0, read_fields, ("day",), (), (text,))
         self.assertTrue(same(self.one("list", "Robert; b ;a; BOB;;-"), ("a", "b", "bob")))
+        self.assertTrue(same(self.one("list", " a "), ("a",)))
         self.assertIsNone(self.one("list", ";-; "))
         self.assertTrue(same(read_fields(KINDS, self.TABLE, ["x", "1", "0001-01-02", "b;a"]), ("x", 1, 1, ("a", "b"))))
 

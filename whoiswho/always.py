@@ -63,15 +63,6 @@ def first_gap(let, many):
     return None
 
 
-def greedy_lot(let, many, one, other):
-    """A lot that is let, of links of two lots, with all that they share, to which no other of them can come."""
-    lot = one & other
-    for at in range(many):
-        if in_lot(one | other, at) and let[lot | (1 << at)]:
-            lot = lot | (1 << at)
-    return lot
-
-
 def always_paper(likes):
     """("always",), or ("weights", links, groups): weights by which groups lose less than the plain ones."""
     need_hard(likes)
@@ -81,21 +72,20 @@ def always_paper(likes):
     if gap is None:
         return ("always",)
     one, other, at = gap
-    # The first links are one fewer than the second ones, at the least, and block all others of both lots; what
-    # they weigh more and what all other links weigh is less than one of the second ones.
-    first, second = greedy_lot(let, many, one, other), (one | other) ^ (1 << at)
+    # The rule keeps the heaviest links, those of both lots, and so it loses one more link of each lot at the least.
+    # The groups lose one link of both lots alone, and what all further links weigh is less than another one.
     links = []
     for place, (_, low, high) in enumerate(likes.links):
-        weight = many + 2 if in_lot(first, place) else many + 1 if in_lot(second, place) else 1
+        weight = many + 2 if in_lot(one & other, place) else many + 1 if in_lot(one | other, place) else 1
         links.append((weight, low, high))
-    return ("weights", tuple(links), lot_groups(likes, second))
+    return ("weights", tuple(links), lot_groups(likes, (one | other) ^ (1 << at)))
 
 
 def are_weighed(likes, value):
     """Whether any value is the links of a web, in order, with any weights from 1 on."""
     if not is_tuple_of(value, len(likes.links)):
         return False
-    if not all([isinstance(link, tuple) and is_tie(link, likes.things, False) for link in value]):
+    if not all([is_tie(link, likes.things, False) for link in value]):
         return False
     return same_value(tuple([link[1:] for link in value]), tuple([link[1:] for link in likes.links]))
 
@@ -104,7 +94,7 @@ def always_holds(likes, value):
     """Whether any value is ("always",), rightly, or any weights and groups that lose less by them."""
     need_hard(likes)
     if is_tuple_of(value, 1):
-        return value[0] == "always" and always_paper(likes) == value
+        return always_paper(likes) == value
     if not is_tuple_of(value, 3) or value[0] != "weights" or not are_weighed(likes, value[1]):
         return False
     if not are_groups(value[2], likes.things):
