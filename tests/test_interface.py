@@ -58,6 +58,32 @@ FUNCTIONS = {
              " fields_texts(schema,fields) fields_form(schema,table,fields)",
     "twins": "exchanged_text(text,places) exchange_row(one,other) twins_hold(one,other,value) twin_text(text)"
              " twin_count(text) all_twins(text)",
+    "chains": "unlike_kind(names,unlikes) kind_holds(names,unlikes,value) fewest_back(names,sames,unlikes)"
+              " fewest_chains(names,sames,unlikes) chains_hold(names,sames,unlikes,value) gap_web(names,unlikes)",
+    "deeds": "need_lot(value) lot_records(lot) lot_rule(lot) beside_marks(lot) idle_marks(lot) hand_words(lot)"
+             " put_words(names,links,bars,sames,unlikes) lot_web(lot) told_people(lot) refused_sames(lot) struck_lot(lot,marks)",
+    "desk": "Desk()",
+    "house": "WhoHouse(houses,comparers) house_behind(houses,comparers,events)",
+    "index": "fields_paper(rule,fields) fields_hold(rule,fields,value) keyed_fields(rule) fewest_fields(rule) Index(rule,fields)",
+    "links": "plain_links(rule,records) rule_bars(rule,records) Links(rule,fields)",
+    "live": "Live(houses,comparers)",
+    "looks": "look_holds(value) make_look(word,question) wrong_looks(values)",
+    "moments": "World(houses) events_world(houses,events) vector_at(houses,events,moment,house) told_from(book,vector)"
+               " told_at(houses,events,moment,house) possible_fault(book,house,vector) possible_events(book,house,vector)"
+               " possible_vectors(book,house) possible_people(book,house)",
+    "questions": "turning_answers(names,links,bars,sames,unlikes) leading_paper(names,links,bars,parts)"
+                 " leading_many(names,links,bars,parts) answered_people(names,links,bars,sames,unlikes,word,one,other)",
+    "rings": "hands_paper(names,sames,unlikes) hands_hold(names,sames,unlikes,value) is_settled(names,sames,unlikes,parts)"
+             " words_back(names,sames,unlikes,parts) settled_parts(names,sames,unlikes)"
+             " steps_between(names,sames,unlikes,parts,goal) same_paper(names,sames,unlikes,one,other)"
+             " same_holds(names,sames,unlikes,one,other,value)",
+    "surely": "firm_paper(parts,answers,wrong) firm_holds(parts,answers,wrong,value) fewest_answers(parts,wrong)"
+              " further_answers(parts,answers,wrong)",
+    "taken": "taken_paper(book,one,other) taken_holds(book,one,other,value)",
+    "taught": "taught_paper(answers) taught_holds(answers,value)",
+    "why": "told_less(book,marks) told_if(houses,events,moment,event) turn_marks(book,low,high,one,other)"
+           " near_marks(book,low,high,one,other) turn_grounds(book,low,high,one,other) turn_needs(book,low,high,one,other)",
+    "windows": "change_window(elder,newer) rules_paper(one,other) rules_hold(one,other,value)",
     "values": "told_value(rule,sources) fewest_struck(rule,sources) sum_up(sources) summary_value(rule,summary)"
               " joined_summaries(one,other) without_source(summary,name)",
 }
@@ -65,6 +91,12 @@ METHODS = {
     "keeping.Keeping": "told_names() told_links() told_bars() told_fates() told_people() put_name(name) take_name(name)"
                        " put_link(weight,one,other) take_link(one,other) put_bar(one,other) take_bar(one,other)",
     "measures.Pairs": "move_name(name,group)",
+    "desk.Desk": "say(command)",
+    "house.WhoHouse": "web_of(house) vector_of(house) people_of(house) paper_of(house) from_nothing(house) do_event(event)",
+    "index.Index": "put_record(name,values) take_record(name) likely_names(values)",
+    "links.Links": "put_record(name,values) take_record(name) change_record(name,values) all_links() all_records()",
+    "live.Live": "do_event(event) undo_event() redo_event() all_people() people_then(number) people_if(number,event)",
+    "moments.World": "do_event(event)",
 }
 
 

@@ -149,10 +149,15 @@ def lower_book(book, vector):
     need_book(book)
     if not is_vector(vector, len(book)) or greater_numbers(vector, vector_of(book)) != vector_of(book):
         raise InvalidVector(-1)
-    lower = tuple([row[:vector[house]] for house, row in enumerate(book)])
+    lower = first_deeds(book, vector)
     if fault_of(lower) is not None:
         raise Refused(-1)
     return lower
+
+
+def first_deeds(book, vector):
+    """The book of so many first deeds of each house, closed or not."""
+    return tuple([row[:vector[house]] for house, row in enumerate(book)])
 
 
 def deed_rank(book, mark):

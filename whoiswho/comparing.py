@@ -31,6 +31,11 @@ def takes(comparer, value):
     return is_text(value) or is_whole(value) or is_text_list(value)
 
 
+def is_binary(comparer):
+    """Whether all distances by a comparer are 0 or 1."""
+    return comparer in ("exact", "shared")
+
+
 def kept_value(value):
     """A value that some comparer takes, lists as tuples."""
     return tuple(value) if is_sequence(value) else value

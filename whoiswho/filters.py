@@ -1,6 +1,6 @@
 """Few marks, pieces and keys that find all values that are near ([19] to [21])."""
 
-from whoiswho.comparing import kept_value, lone_many, need_comparer, takes
+from whoiswho.comparing import is_binary, kept_value, lone_many, need_comparer, takes
 from whoiswho.errors import InvalidIndex, InvalidLot, InvalidSize, InvalidText, InvalidValue, Refused
 from whoiswho.grams import grams_of
 from whoiswho.plain import is_number, is_row_of, is_sequence, is_text, is_whole
@@ -218,7 +218,7 @@ def keys_of(comparer, near, value, asked):
     need_number("near", near)
     if not takes(comparer, value):
         raise InvalidValue(0)
-    if near > 0 and comparer in ("exact", "shared"):
+    if near > 0 and is_binary(comparer):
         return None
     if value is None:
         return ()

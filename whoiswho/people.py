@@ -30,12 +30,17 @@ def pair_among(known, one, other):
 
 def need_links(names, links):
     """The links as tuples, in the order in which they were passed; the names are right."""
+    return links_above(names, links, None)
+
+
+def links_above(names, links, floor):
+    """As need_links, but no weight may be at this floor or below it."""
     if not is_sequence(links):
         raise InvalidLinks(-1)
     known = {name: True for name in names}
     told, seen = [], {}
     for at, link in enumerate(links):
-        if not is_row_of(link, 3) or not is_whole(link[0]):
+        if not is_row_of(link, 3) or not is_whole(link[0]) or (floor is not None and link[0] <= floor):
             raise InvalidLinks(at)
         pair = pair_among(known, link[1], link[2])
         if pair is None or pair in seen:

@@ -1,8 +1,8 @@
 """Rules of likeness: verdicts of fields, their weights, and what is barred ([15])."""
 
-from whoiswho.comparing import distance_of, is_comparer, takes
+from whoiswho.comparing import distance_of, is_binary, is_comparer, takes
 from whoiswho.errors import InvalidRecord, InvalidRule, InvalidValue, InvalidVerdicts
-from whoiswho.plain import is_below, is_number, is_rising, is_row_of, is_tuple_of, is_whole
+from whoiswho.plain import has_list, is_below, is_number, is_rising, is_row_of, is_tuple_of, is_whole
 
 VERDICTS = ("lacking", "like", "near", "unlike")
 MOST_FIELDS = 12
@@ -57,7 +57,7 @@ def verdict_distance(field, verdict):
     least = {"like": 0, "near": like + 1, "unlike": near + 1}.get(verdict, None)
     if least is None or (verdict == "near" and like == near):
         return None
-    if comparer in ("exact", "shared") and least > 1:
+    if is_binary(comparer) and least > 1:
         return None
     return least
 
@@ -84,8 +84,13 @@ def need_verdicts(rule, row):
             raise InvalidVerdicts(at)
 
 
+def verdict_place(verdict):
+    """The place of a verdict's weight among those of a field."""
+    return VERDICTS.index(verdict)
+
+
 def weight_of(field, verdict):
-    return field[3][VERDICTS.index(verdict)]
+    return field[3][verdict_place(verdict)]
 
 
 def sum_of(rule, row):
@@ -110,6 +115,23 @@ def row_word(rule, row):
     """What a rule says of a row of verdicts: "barred", "link" or "none"."""
     need_verdicts(rule, row)
     return word_of(rule, row)
+
+
+def takes_all(comparers, value):
+    """Whether any value is one value for each of some comparers, each taken by it."""
+    if not is_row_of(value, len(comparers)):
+        return False
+    return all([takes(comparer, value[at]) for at, comparer in enumerate(comparers)])
+
+
+def are_taken(comparers, value):
+    """As takes_all, of tuples alone."""
+    return not has_list(value) and takes_all(comparers, value)
+
+
+def comparers_of(rule):
+    """For each field of a rule its comparer."""
+    return tuple([field[0] for field in rule[0]])
 
 
 def need_pair(rule, one, other):
@@ -181,8 +203,13 @@ def values_apart(comparer, distance):
     return "a", "a" * (distance + 1)
 
 
+def fields_apart(rule, distances):
+    """The fields of some two records that are so far apart, which they can be."""
+    pairs = [values_apart(field[0], distances[at]) for at, field in enumerate(rule[0])]
+    return tuple([pair[0] for pair in pairs]), tuple([pair[1] for pair in pairs])
+
+
 def record_pair(rule, row):
     """The fields of some two records with just this row of verdicts."""
     need_verdicts(rule, row)
-    pairs = [values_apart(field[0], verdict_distance(field, row[at])) for at, field in enumerate(rule[0])]
-    return tuple([pair[0] for pair in pairs]), tuple([pair[1] for pair in pairs])
+    return fields_apart(rule, [verdict_distance(field, row[at]) for at, field in enumerate(rule[0])])
