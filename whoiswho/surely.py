@@ -127,45 +127,44 @@ def firm_holds(parts, answers, wrong, value):
     return all([are_part_chains(value[1][number], told, part, wrong) for number, part in enumerate(parts)])
 
 
-def gathered(pairs):
-    """Answers, in order, that say of each of these pairs that often that it is one of them."""
+def gathered(rows):
+    """Answers, in order, of rows (weight, one, other): those of a pair together, those of weight 0 left out."""
     often = {}
-    for one, other in pairs:
+    for weight, one, other in rows:
         pair = pair_of(one, other)
-        often[pair] = often.get(pair, 0) + 1
-    return in_order([(often[pair], pair[0], pair[1]) for pair in often])
+        often[pair] = often.get(pair, 0) + weight
+    return in_order([(often[pair], pair[0], pair[1]) for pair in often if often[pair] > 0])
 
 
 def fewest_within(part, wrong):
-    """Fewest pairs of a part, alike ones so often, such that it stays tied when so many go."""
+    """Fewest answers of a part such that it stays tied when so many go."""
     size = len(part)
     if wrong == 0 or size == 1:
-        return [(part[at - 1], part[at]) for at in range(1, size)]
+        return [(1, part[at - 1], part[at]) for at in range(1, size)]
     # Round a ring each cut is crossed twice; where that is one too few, what is far apart round it is tied, too.
-    ring = [(part[at], part[(at + 1) % size]) for at in range(size)]
-    pairs = ring * ((wrong + 1) // 2)
+    rows = [((wrong + 1) // 2, part[at], part[(at + 1) % size]) for at in range(size)]
     if wrong % 2 == 0:
-        pairs.extend([(part[at], part[(at + size // 2) % size]) for at in range((size + 1) // 2)])
-    return pairs
+        rows.extend([(1, part[at], part[(at + size // 2) % size]) for at in range((size + 1) // 2)])
+    return rows
 
 
 def lacking_between(parts, answers, wrong):
-    """For each two parts a pair between, as often as answers lack to one more than may be wrong."""
-    pairs = []
+    """For each two parts an answer between, as often as such lack to one more than may be wrong."""
+    rows = []
     for one, other in number_pairs(len(parts)):
         lack = wrong + 1 - told_between(answers, parts[one], parts[other])
-        pairs.extend([(parts[one][0], parts[other][0]) for _ in range(lack)])
-    return pairs
+        rows.append((max(0, lack), parts[one][0], parts[other][0]))
+    return rows
 
 
 def fewest_answers(parts, wrong):
     """Fewest answers by which parts are firm."""
     need_answers(parts, ())
     need_wrong(wrong)
-    pairs = lacking_between(parts, (), wrong)
+    rows = lacking_between(parts, (), wrong)
     for part in parts:
-        pairs.extend(fewest_within(part, wrong))
-    return gathered(pairs)
+        rows.extend(fewest_within(part, wrong))
+    return gathered(rows)
 
 
 def is_bridge(part, answers, answer):
@@ -223,7 +222,7 @@ def further_answers(parts, answers, wrong):
     told = need_answers(parts, answers)
     if not is_below(wrong, 2):
         raise InvalidSize("wrong")
-    pairs = lacking_between(parts, told, wrong)
+    rows = lacking_between(parts, told, wrong)
     for part in parts:
-        pairs.extend(further_within(part, answers_within(told, part), wrong))
-    return gathered(pairs)
+        rows.extend([(1, one, other) for one, other in further_within(part, answers_within(told, part), wrong)])
+    return gathered(rows)
