@@ -139,6 +139,10 @@ class KindTest(unittest.TestCase):
         self.assertIs(kind_holds(NAMES, [(b, d), (a, c)], ("two", (b, d), (a, c))), True)
         self.assertIs(kind_holds(NAMES, [(b, d), (a, c)], ("two", (a, c), (a, c))), False)
         self.assertIs(kind_holds(NAMES, [(a, d)], ("all", (d,), (a,))), True)
+        # Two unlikes with a common name are all of two lots; lots are of the names alone.
+        self.assertIs(kind_holds(NAMES, [(a, b), (a, d)], ("two", (a, b), (a, d))), False)
+        self.assertIs(kind_holds(NAMES, [(a, b), (b, c), (a, c)], ("web", (a, (9, 9)), (b,), (c,))), False)
+        self.assertIs(kind_holds(NAMES, [(a, b), (b, c), (a, c)], ("web", (a,), (b,), (c,))), True)
         self.assertEqual(unlike_kind(NAMES, [(a, b), (b, c), (a, c)])[0], "web")
         # A lot may have more names than it needs.
         self.assertIs(kind_holds(NAMES, [(a, b), (b, c), (a, c)], ("web", (a, d), (b,), (c,))), True)
@@ -275,6 +279,14 @@ class FewestTest(unittest.TestCase):
         self.assertIs(chains_hold(*WEB, (value[0], list(value[1]))), False)
         self.assertIs(chains_hold(*WEB, (value[0], value[1][:1])), False)
         self.assertIs(chains_hold(*WEB, (((((0, 0), (0, 1)),)), value[1] * 2)), False)
+        # Each same is in at most twice its weight of the chains; pairs taken back are sames.
+        ring = ((1, (0, 0), (0, 1)), (1, (0, 0), (0, 2)), (1, (0, 1), (0, 2)))
+        straight, round_, back = ((0, 0), (0, 1)), ((0, 0), (0, 2), (0, 1)), (((0, 0), (0, 1)), ((0, 0), (0, 2)))
+        for many in range(5):
+            value = (back, (straight,) * many + (round_,) * (4 - many))
+            self.assertIs(chains_hold(NAMES, ring, (straight,), value), many == 2)
+        value = (back + (((0, 1), (1, 0)),), (straight,) * 2 + (round_,) * 2)
+        self.assertIs(chains_hold(NAMES, ring, (straight,), value), False)
         # Papers of webs of any unlikes hold, too.
         unlikes = (((0, 0), (0, 1)), ((0, 0), (0, 2)), ((0, 1), (0, 2)))
         sames = ((1, (0, 0), (0, 1)), (1, (0, 1), (0, 2)))

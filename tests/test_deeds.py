@@ -166,7 +166,8 @@ class NeedLotTest(unittest.TestCase):
                      ("put", ("\n",)), ("put", "a"), ("put",), ("put", ("a",), ()), ("put", (("a", 1),)), ("put", ((None,),)),
                      ("change", (0, 0), ()), ("change", [0, 0], ("a",)), ("change", ("a",)), ("change", (0, 0), ("a",), 0),
                      ("change", (0, -1), ("a",)), ("same", (0, 0), (0, 0)), ("same", (0, 1), (0, 0)), ("same", (0, 0)),
-                     ("unlike", (0, 1), (0, 0)), ("unlike", (0, 1), (0, True)), ("unlike", (0, 1), [0, 2]), ("rule", None), ("rule", ()),
+                     ("unlike", (0, 1), (0, 0)), ("unlike", (0, 1), (0, True)), ("unlike", (0, 1), [0, 2]),
+                     ("same", [0, 0], (0, 1)), ("unlike", (0, False), (0, 2)), ("same", (0,), (0, 2)), ("same", ((0, 0),), (1, 1)), ("rule", None), ("rule", ()),
                      ("rule", list(RULE)), ("rule", (RULE[0], 3, [])), ("rule",), ("day", [(0, 0)]), ("day", None), ("day", ([],)),
                      ("day", ((), ([],))), ("back", (0, 0)), ("puts", ("a",)), (), None, 3, "put", ["put", ("a",)], (["put"], ("a",)),
                      (None, ("a",))]:
@@ -233,7 +234,7 @@ class LotTest(unittest.TestCase):
             for _ in range(3):
                 struck = tuple(mark for mark in refused if choice.random() < 0.6)
                 self.assertTrue(same(told_people(struck_lot(lot, struck)), people))
-        self.assertGreater(min(found), 40)
+        self.assertGreater(min(found), 20)
 
     def test_by_hand(self):
         self.assertEqual(lot_records(LOT), (((0, 0), ("anna",)), ((1, 0), ("ann",))))
@@ -250,6 +251,9 @@ class LotTest(unittest.TestCase):
         self.assertEqual(lot_web(both), (((0, 0), (1, 0)), ((TOP, (0, 0), (1, 0)),), (((0, 0), (1, 0)),)))
         self.assertEqual(hand_words(both)[1:], (((2, (0, 0), (1, 0)),), (((0, 0), (1, 0)),)))
         self.assertEqual(refused_sames(both), ((1, 1), (1, 3)))
+        # Fields may look like a name.
+        pairs = (((0, 0), (0, 0), ("put", (0, 0))), ((0, 1), (1, 0), ("put", (0, 1))), ((0, 2), (2, 0), ("day", (0, 0))))
+        self.assertEqual(hand_words(pairs), (((0, 0), (0, 1)), (), ()))
         # Without a rule there are just the hands' words.
         self.assertEqual(lot_web(LOT[:2] + LOT[3:4]), (((0, 0), (1, 0)), (), ()))
 

@@ -175,6 +175,7 @@ class DeskTest(unittest.TestCase):
                 ("open 1" + " 'exact'" * 7, InvalidSize, "comparers"), ("do 2 ()", NoHouse, 2), ("do ? ()", NoHouse, None), ("do 0 ()", InvalidDeed, -1),
                 ("do 0 'put'", InvalidDeed, -1), ("put 0 'a'", InvalidDeed, -1), ("put 0 3 'a'", InvalidDeed, -1), ("put 2 'a'", NoHouse, 2),
                 ("same 0 (0 0) (0 0)", InvalidDeed, -1), ("same 0 (0 0) (0 5)", InvalidDeed, -1), ("same 0 0 'a'", InvalidDeed, -1),
+                ("same 0 (0 0) 'a'", InvalidDeed, -1), ("unlike 0 (0 1) (0 0 0)", InvalidDeed, -1),
                 ("unlike 0 ? (0 0)", InvalidDeed, -1), ("unlike (0 0) 0 0", NoHouse, (0, 0)), ("back 0 (0 2)", InvalidDeed, -1), ("back 0 0", InvalidDeed, -1),
                 ("write -1", NoHouse, -1), ("read 0 0", InvalidIndex, -1), ("read 3 'a'", NoHouse, 3), ("fall 0 (3 0)", InvalidVector, -1),
                 ("fall 0 3", InvalidVector, -1), ("fall 0 (1 0)", Refused, 0), ("fall 5 3", NoHouse, 5), ("people 2", NoHouse, 2), ("people ?", NoHouse, None),

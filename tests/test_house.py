@@ -8,7 +8,7 @@ from helpers import chance, check_ways, has_list, in_lists, keeps, odd_values, s
 from test_comparing import TAKEN
 from test_moments import closed
 from test_papers import plain_holds as paper_holds
-from worlds import marks_of, plain_done, plain_lot, plain_start, some_event
+from worlds import marks_of, plain_done, plain_lot, plain_start, some_event, whole_word
 from whoiswho.comparing import field_distance
 from whoiswho.deeds import lot_web, told_people
 from whoiswho.errors import InvalidComparer, InvalidDeed, InvalidEvents, InvalidIndex, InvalidSize, InvalidVector, NoHouse, Refused
@@ -26,20 +26,8 @@ METHODS = ("web_of", "vector_of", "people_of", "paper_of", "from_nothing")
 
 def house_word(choice, book, seen):
     """A word of records and rules of the fields of COMPARERS."""
-    known = marks_of(seen)
-    puts = [mark for mark in known if book[mark[0]][mark[1]][1][0] == "put"]
-    others = [mark for mark in known if book[mark[0]][mark[1]][1][0] not in ("back", "day")]
-    kind = choice.choice(["put"] * 5 + ["change", "same", "unlike", "rule", "day", "back"])
     fields = (choice.choice(["ann", "ann", "anna", "ben", None]), choice.choice([None, 3, 3, 4, 9]))
-    if kind == "change" and puts:
-        return ("change", choice.choice(puts), fields)
-    if kind in ("same", "unlike") and len(puts) > 1:
-        return (kind,) + tuple(sorted(choice.sample(puts, 2)))
-    if kind == "back" and others:
-        return ("back", choice.choice(others))
-    if kind == "rule" or not known:
-        return ("rule", choice.choice([RULE, RULE, OTHER]))
-    return ("day", (3, ())) if kind == "day" else ("put", fields)
+    return whole_word(choice, book, seen, ["put"] * 5 + ["change", "same", "unlike", "rule", "day", "back"], fields, [RULE, RULE, OTHER])
 
 
 def some_fall(choice, state):
@@ -136,7 +124,7 @@ class HouseTest(unittest.TestCase):
             other = house_behind(houses, COMPARERS, choice.choice([done_events, tuple(done_events)]))
             self.check(other, state)
             self.assertTrue(same(other.anew, whole.anew))
-        self.assertGreater(min(found.values()), 40)
+        self.assertGreater(min(found.values()), 20)
         self.assertGreater(min(anew[many] for many in range(3)), 5)
         self.assertGreater(max(anew), 3)
 

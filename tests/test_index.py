@@ -125,6 +125,11 @@ class FieldsTest(unittest.TestCase):
         self.assertEqual(fields_paper(barred, [0]), ("caught", ("parted", (("below",), ("barred", 0)))))
         self.assertIs(fields_hold(barred, [0], ("caught", ("parted", (("below",), ("barred", True))))), False)
         self.assertIs(fields_hold(barred, [0], ("caught", ("parted", (("below",),) * 2))), False)
+        # A tree goes no further than the last field; what meets in a told field is not missed.
+        for tree in (("parted", ()), ("parted", (("below",),)), ("parted", (("below",), ("below",)))):
+            self.assertIs(fields_hold(barred, [0], ("caught", ("parted", (tree, ("barred", 0))))), False)
+        self.assertIs(fields_hold(one_field, [0], ("missed", ("a",), ("a",))), False)
+        self.assertIs(fields_hold(one_field, [], ("missed", ("a",), ("a",))), True)
         # Of a binary comparer with near above 0 nothing is unlike.
         binary = ((("exact", 0, 1, (0, 9, 5, 9)),), 6, ())
         self.assertEqual(fields_paper(binary, [0]), ("caught", ("below",)))

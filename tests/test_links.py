@@ -66,6 +66,7 @@ class PlainTest(unittest.TestCase):
                           ("ab", ("b", 3)), ((0, 1), None)):
                 keeps(self, InvalidRecord, 1, function, RULE, [first, wrong, None])
             keeps(self, InvalidRecord, 0, function, RULE, [((0, 0), (3, 3)), None])
+            keeps(self, InvalidRecord, 2, function, RULE, [first, ((0, 2), ("b", 3)), ((0, 1), ("b", 3))])
             keeps(self, InvalidRule, 1, function, (RULE[0], None, 3), None)
 
 

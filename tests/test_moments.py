@@ -162,7 +162,7 @@ class MomentTest(unittest.TestCase):
                     self.assertTrue(same(told_from(world.book, vector), people))
                     self.assertTrue(same(told_from(lower_book(world.book, world.vectors[house]), vector), people)
                                     if all(a <= b for a, b in zip(vector, world.vectors[house])) else True)
-        self.assertGreater(min(told[many] for many in range(4)), 10)
+        self.assertGreater(min(told[many] for many in range(4)), 4)
 
     def test_by_hand(self):
         self.assertEqual(vector_at(2, EVENTS, 6, 0), (2, 0))

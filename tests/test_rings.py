@@ -223,6 +223,7 @@ class SettledTest(unittest.TestCase):
                 keeps(self, InvalidPeople, -1, function, *WEB, value)
             keeps(self, InvalidPeople, -1, steps_between, *WEB, value, None)
             keeps(self, InvalidPeople, -1, steps_between, *WEB, ALONE, value)
+            keeps(self, InvalidPeople, -1, steps_between, *WEB, value, whole)
         keeps(self, Refused, 0, steps_between, *WEB, ALONE, ALONE)
         keeps(self, Refused, 1, steps_between, *WEB, whole, ALONE)
         for value in odd_values():

@@ -128,6 +128,11 @@ class FirmTest(unittest.TestCase):
         self.assertIs(firm_holds(PARTS, twice, 1, ("firm", (((((0, 0), (0, 1)),) * 2,), ()))), True)
         self.assertIs(firm_holds(PARTS, twice, 1, ("firm", [((((0, 0), (0, 1)),) * 2,), ()])), False)
         self.assertIs(firm_holds(PARTS, twice, 1, ("firm", (((((0, 0), (0, 1)),),), ()))), False)
+        # Each answer in no more of a name's chains than it is said.
+        part, ring = ((0, 0), (0, 1), (0, 2)), ((1, (0, 0), (0, 1)), (1, (0, 0), (0, 2)), (1, (0, 1), (0, 2)))
+        second = (((0, 0), (0, 2)), ((0, 0), (0, 1), (0, 2)))
+        for first, held in (((((0, 0), (0, 1)),) * 2, False), ((((0, 0), (0, 1)), ((0, 0), (0, 2), (0, 1))), True)):
+            self.assertIs(firm_holds((part,), ring, 1, ("firm", ((first, second),))), held)
         self.assertIs(firm_holds(PARTS, ANSWERS, 1, ("joined", False, True)), False)
         self.assertIs(firm_holds(PARTS, ANSWERS, 1, ("joined", 1, 0)), False)
 

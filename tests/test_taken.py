@@ -151,6 +151,9 @@ class TakenTest(unittest.TestCase):
         ways = [("fewest", ((0, 7),), ((mark, (0, 7)),)) for mark in ((0, 5), (0, 6))]
         self.assertIn(taken_paper(BOOK, (0, 0), (0, 3)), ways)
         self.assertIs(taken_holds(BOOK, (0, 0), (0, 3), ("fewest", ((0, 7),), (((0, 6), (0, 7)),))), True)
+        # Each deed goes on from where the one ahead has led.
+        self.assertIs(taken_holds(BOOK, (0, 3), (0, 0), ("fewest", ((0, 7),), (((0, 5),),))), False)
+        self.assertIs(taken_holds(BOOK, (0, 3), (0, 0), ("fewest", ((0, 7),), (((0, 7), (0, 5)),))), True)
         # A place may come twice, a deed may not; a deed within one place leads nowhere.
         self.assertIs(taken_holds(BOOK, (0, 0), (0, 3), ("fewest", ((0, 7),), (((0, 5), (0, 6), (0, 5), (0, 7)),))), False)
         longer = book_of([word for _, word in BOOK[0]] + [("same", (0, 0), (0, 2)), ("same", (0, 0), (0, 1))])

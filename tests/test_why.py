@@ -241,6 +241,16 @@ class TurnTest(unittest.TestCase):
                 elif len(near) < 8:
                     self.assertTrue(same(function(*question), plain_least(*question, needs, near)))
 
+    def test_just_ten(self):
+        words = [("rule", RULES[0]), PUT, PUT] + [("change", (0, 1), ("ann",))] * 11
+        book = (tuple(((number,), word) for number, word in enumerate(words)),)
+        for low, high in ((3, 13), (4, 14), (2, 12)):
+            self.assertEqual(len(near_marks(book, (low,), (high,), (0, 1), (0, 2))), 10)
+            grounds = turn_grounds(book, (low,), (high,), (0, 1), (0, 2))
+            self.assertEqual(grounds, ((),) if low > 2 else (((0, 2),),))
+        for function in (turn_grounds, turn_needs):
+            keeps(self, InvalidSize, "deeds", function, book, (3,), (14,), (0, 1), (0, 2))
+
     def test_by_hand(self):
         one, other = (0, 0), (1, 0)
         self.assertEqual(turn_marks(BOOK, (1, 1), (2, 1), one, other), ((0, 1),))

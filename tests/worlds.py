@@ -33,13 +33,12 @@ RULES = (
 )
 
 
-def told_word(choice, book, seen):
-    """A word by which people are told: records and rules of one field, of texts."""
+def whole_word(choice, book, seen, kinds, fields, rules):
+    """A word of one of these kinds, a put or a rule where none can be; fields for a put or a change, one of the rules."""
     known = [(house, number) for house, many in enumerate(seen) for number in range(many)]
     puts = [mark for mark in known if book[mark[0]][mark[1]][1][0] == "put"]
     others = [mark for mark in known if book[mark[0]][mark[1]][1][0] not in ("back", "day")]
-    kind = choice.choice(["put", "put", "put", "change", "same", "same", "unlike", "rule", "day", "back", "back"])
-    fields = (choice.choice(["a", "ab", "b", "abc", "", None]),)
+    kind = choice.choice(kinds)
     if kind == "change" and puts:
         return ("change", choice.choice(puts), fields)
     if kind in ("same", "unlike") and len(puts) > 1:
@@ -47,10 +46,16 @@ def told_word(choice, book, seen):
     if kind == "back" and others:
         return ("back", choice.choice(others))
     if kind == "rule" or not known:
-        return ("rule", choice.choice(RULES))
+        return ("rule", choice.choice(rules))
     if kind == "day":
         return ("day", ((0, choice.randint(0, 3)), ()))
     return ("put", fields)
+
+
+def told_word(choice, book, seen):
+    """A word by which people are told: records and rules of one field, of texts."""
+    kinds = ["put", "put", "put", "change", "same", "same", "unlike", "rule", "day", "back", "back"]
+    return whole_word(choice, book, seen, kinds, (choice.choice(["a", "ab", "b", "abc", "", None]),), RULES)
 
 
 def some_world(choice, houses, deeds, some_word=some_word):

@@ -9,6 +9,7 @@ from whoiswho.papers import pairs_within
 from whoiswho.people import in_order, need_bars, need_names
 from whoiswho.plain import homes_of, is_chain, is_name_group, is_name_tuple, is_rising, is_tuple_of, pair_of, same_value
 from whoiswho.plain import tied_lots
+from whoiswho.rings import pairs_of
 
 
 def least_broken(names, sames, unlikes):
@@ -33,7 +34,7 @@ def fewest_back(names, sames, unlikes):
     known, told, barred = need_hands(names, sames, unlikes)
     parts = []
     # Unlikes between two pieces are kept anyway.
-    for piece in tied_lots(known, [(one, other) for _, one, other in told]):
+    for piece in tied_lots(known, pairs_of(told)):
         within = [same for same in told if same[1] in piece]
         parts.extend(least_broken(piece, within, [bar for bar in barred if bar[0] in piece and bar[1] in piece]))
     people = tuple(sorted(parts))
@@ -46,9 +47,7 @@ def beside_name(unlikes, name):
 
 
 def are_all(unlikes, one, other):
-    """Whether unlikes are just all pairs of two lots without a common name."""
-    if any([name in other for name in one]):
-        return False
+    """Whether unlikes are just all pairs of two lots; so these have no name in common."""
     return sorted([pair_of(a, b) for a in one for b in other]) == sorted(unlikes)
 
 
@@ -127,7 +126,7 @@ def kind_holds(names, unlikes, value):
         return same_value(value, ("all", (), ()))
     if word == "all" and len(rest) == 2:
         return are_lots(known, rest) and are_all(told, rest[0], rest[1])
-    if word == "two" and len(told) == 2:
+    if word == "two":
         return kind_of(told)[0] == "two" and (same_value(rest, told) or same_value(rest, told[::-1]))
     return word == "web" and len(rest) == 3 and are_lots(known, rest) and are_web(told, rest)
 
@@ -231,7 +230,7 @@ def are_pairs_back(names, sames, unlikes, value):
         return False
     if not all([is_name_tuple(end) for pair in value for end in pair]) or not is_rising(value):
         return False
-    pairs = [(one, other) for _, one, other in sames]
+    pairs = pairs_of(sames)
     if not all([pair in pairs for pair in value]):
         return False
     homes = homes_of(tied_lots(names, [pair for pair in pairs if pair not in value]))
@@ -262,7 +261,7 @@ def chains_hold(names, sames, unlikes, value):
     words = sum([weight for weight, one, other in told if (one, other) in value[0]])
     if not is_tuple_of(value[1], 2 * words):
         return False
-    pairs = [(one, other) for _, one, other in told]
+    pairs = pairs_of(told)
     return all([is_chain_of_bar(chain, pairs, barred) for chain in value[1]]) and chains_fit(told, value[1], 2)
 
 

@@ -3,7 +3,7 @@
 from whoiswho.choices import all_lots
 from whoiswho.comparing import is_binary, kept_value, takes
 from whoiswho.errors import InvalidField, InvalidRecord, InvalidValue, NoRecord, Refused
-from whoiswho.filters import asked_keys, put_keys
+from whoiswho.filters import keys_of
 from whoiswho.plain import is_below, is_row_of, is_sequence, is_tuple_of
 from whoiswho.records import need_name
 from whoiswho.rules import are_taken, comparers_of, need_rule, record_pair, verdict_row, verdicts_of, weight_of, word_of
@@ -155,7 +155,7 @@ class Index:
         if known in self._values:
             raise Refused(-1)
         self._values[known] = told
-        for key in self.put_by(told):
+        for key in self.keys_by(told, False):
             self._holders.setdefault(key, {})[known] = True
 
     def take_record(self, name):
@@ -163,31 +163,21 @@ class Index:
         known = need_name(name)
         if known not in self._values:
             raise NoRecord(name)
-        for key in self.put_by(self._values[known]):
+        for key in self.keys_by(self._values[known], False):
             del self._holders[key][known]
-            if len(self._holders[key]) == 0:
-                del self._holders[key]
         del self._values[known]
 
     def likely_names(self, values):
         """Ascending, the names of the records that put a key which these values ask."""
         found = {}
-        for key in self.asked_by(need_values(self._rule, values)):
+        for key in self.keys_by(need_values(self._rule, values), True):
             found.update(self._holders.get(key, {}))
         return tuple(sorted(found))
 
-    def put_by(self, values):
-        """The keys that values put, each with its field's place."""
+    def keys_by(self, values, asked):
+        """The keys that values put, or ask if they are asked, each with its field's place."""
         keys = []
         for place in self._fields:
             comparer, _, near, _ = self._rule[0][place]
-            keys.extend([(place, key) for key in put_keys(comparer, near, values[place])])
-        return keys
-
-    def asked_by(self, values):
-        """The keys that values ask, each with its field's place."""
-        keys = []
-        for place in self._fields:
-            comparer, _, near, _ = self._rule[0][place]
-            keys.extend([(place, key) for key in asked_keys(comparer, near, values[place])])
+            keys.extend([(place, key) for key in keys_of(comparer, near, values[place], asked)])
         return keys

@@ -9,6 +9,7 @@ from whoiswho.measures import is_parts
 from whoiswho.people import in_order
 from whoiswho.plain import homes_of, is_below, is_chain, is_name_group, is_number, is_tuple_of, neighbours, pair_of
 from whoiswho.plain import tied_lots
+from whoiswho.rings import pairs_of
 
 
 def need_answers(parts, answers):
@@ -25,10 +26,6 @@ def need_wrong(wrong):
 
 def answers_within(answers, part):
     return [answer for answer in answers if answer[1] in part and answer[2] in part]
-
-
-def pairs_of(answers):
-    return [(one, other) for _, one, other in answers]
 
 
 def told_between(answers, one, other):

@@ -145,20 +145,26 @@ def near_marks(book, low, high, one, other):
     return tuple([mark for mark, _ in near_words(book, high, (one, other)) if not counts(low, mark)])
 
 
+def words_kept(words, low, lot, is_need):
+    """Of near (mark, word) those without a lot for a need; else low's, and the lot."""
+    if is_need:
+        return [(mark, word) for mark, word in words if mark not in lot]
+    return [(mark, word) for mark, word in words if mark in lot or counts(low, mark)]
+
+
 def least_turning(book, low, high, pair, is_need):
     """As turn_needs, or as turn_grounds if it is no need; of right things."""
     words, known = near_words(book, high, pair), {}
     between = [mark for mark, _ in words if not counts(low, mark)]
     if len(between) > MOST_NEAR:
         raise InvalidSize("deeds")
-    wanted = answer_over(book, [row for row in words if not is_need or counts(low, row[0])], pair, known)
+    # High's answer is that over all near words, low's that over all of them without those between.
+    wanted = answer_over(book, words_kept(words, low, between, is_need), pair, known)
     least = []
     for places in [()] + all_lots(len(between)):
         lot = tuple([between[place] for place in places])
-        if not has_part(lot, least):
-            kept = [row for row in words if (row[0] not in lot if is_need else row[0] in lot or counts(low, row[0]))]
-            if answer_over(book, kept, pair, known) == wanted:
-                least.append(lot)
+        if not has_part(lot, least) and answer_over(book, words_kept(words, low, lot, is_need), pair, known) == wanted:
+            least.append(lot)
     return tuple(sorted(least))
 
 

@@ -67,7 +67,7 @@ def rules_hold(one, other, value):
     """Whether any value is ("alike",), rightly, or any two records of which the words are unlike."""
     need_alike_fields(one, other, 1)
     if is_tuple_of(value, 1):
-        return value == ("alike",) and alike_paper(one, other) == value
+        return alike_paper(one, other) == value
     if not is_tuple_of(value, 4) or value[0] != "unlike":
         return False
     _, distances, first, second = value
